@@ -26,12 +26,54 @@ FUNCTIONS = {
         "flat_sum": ["many", "number"],
         "place_sum": ["many", "place"],
     },
+    "nets": {
+        "net_of": ["told"],
+        "same_net": ["one", "other"],
+        "with_weight": ["net", "layer", "node", "place", "number"],
+        "with_number": ["net", "layer", "node", "number"],
+        "node_net": ["net", "layer", "node"],
+    },
+    "nettext": {
+        "show_net": ["net"],
+        "read_net": ["text"],
+        "show_box": ["box"],
+        "read_box": ["text"],
+    },
+    "boxes": {
+        "is_box": ["thing"],
+        "is_in": ["box", "thing"],
+        "middle": ["box"],
+        "box_wishes": ["box"],
+        "least_of": ["box", "one"],
+        "greatest_of": ["box", "one"],
+    },
+    "settling": {
+        "settle": ["box", "wishes", "aim"],
+        "settle_strictly": ["box", "wishes", "strict"],
+    },
 }
 
+# Of each class what it is made of, and its methods.
 METHODS = {
     "layers": {
-        "Layer": {"told": ["self"], "sums": ["self", "ahead"], "passed": ["self", "ahead"]},
-        "CutLayer": {"told": ["self"], "sums": ["self", "ahead"], "passed": ["self", "ahead"]},
+        "Layer": (["nodes"], {"told": [], "sums": ["ahead"], "passed": ["ahead"]}),
+        "CutLayer": (["nodes"], {"told": [], "sums": ["ahead"], "passed": ["ahead"]}),
+    },
+    "nets": {
+        "Net": (
+            ["ins", "layers"],
+            {
+                "ins": [], "outs": [], "hidden": [], "layers_told": [], "places": [], "told": [],
+                "outs_at": ["spot"], "sums_at": ["spot"], "pattern_at": ["spot"],
+            },
+        ),
+    },
+    "settling": {
+        "Settled": ([], {"has_spot": [], "shows": ["box", "wishes", "aim"]}),
+        "Most": (["spot", "multiples"], {"has_spot": [], "shows": ["box", "wishes", "aim"]}),
+        "Empty": (["multiples"], {"has_spot": [], "shows": ["box", "wishes", "aim"]}),
+        "Inside": (["spot"], {"has_spot": [], "shows": ["box", "wishes", "strict"]}),
+        "Outside": (["multiples"], {"has_spot": [], "shows": ["box", "wishes", "strict"]}),
     },
 }
 
@@ -54,14 +96,14 @@ class InterfaceTest(unittest.TestCase):
     def test_methods_stand_in_the_classes_themselves(self):
         for file, classes in METHODS.items():
             module = importlib.import_module(f"noughtcut.{file}")
-            for name, methods in classes.items():
+            for name, (made_of, methods) in classes.items():
                 kind = getattr(module, name)
                 self.assertEqual(kind.__module__, module.__name__)
-                self.assertEqual(list(inspect.signature(kind).parameters), ["nodes"])
+                self.assertEqual(list(inspect.signature(kind).parameters), made_of)
                 for method, arguments in methods.items():
                     with self.subTest(file=file, name=name, method=method):
                         self.assertIn(method, vars(kind))
-                        self.assertEqual(list(inspect.signature(vars(kind)[method]).parameters), arguments)
+                        self.assertEqual(list(inspect.signature(vars(kind)[method]).parameters), ["self", *arguments])
 
 
 if __name__ == "__main__":
