@@ -78,6 +78,12 @@ def check_box(thing):
         raise NoBox(thing)
 
 
+def check_box_over(thing, many):
+    """Refuse what is no box of just so many tuples."""
+    if not is_box(thing) or len(thing) != many:
+        raise NoBox(thing)
+
+
 def _check_sum(box, one):
     """Refuse what is no box, then what is no sum over its places."""
     check_box(box)

@@ -51,6 +51,23 @@ FUNCTIONS = {
         "settle": ["box", "wishes", "aim"],
         "settle_strictly": ["box", "wishes", "strict"],
     },
+    "handing": {
+        "handed_on": ["net", "box"],
+        "states_of": ["net", "box"],
+    },
+    "tighter": {
+        "tightened": ["net", "box"],
+    },
+    "cases": {
+        "sums_by": ["net", "pattern"],
+        "wishes_by": ["nets", "box", "pattern", "many"],
+    },
+    "trees": {
+        "greatest_at": ["nets", "box", "aim"],
+        "least_at": ["nets", "box", "aim"],
+        "closes": ["nets", "box", "aim", "number", "tree"],
+        "node_state": ["net", "box", "layer", "node"],
+    },
 }
 
 # Of each class what it is made of, and its methods.
