@@ -2,8 +2,8 @@
 
 A wish is here a tuple of four whole numbers, three weights and a number, and an aim a tuple of three. Of three
 wishes whose rows don't lie in one plane the corner is the spot at which each of them holds and is only just kept.
-Every corner that is gone through has the aim as its wishes' rows, none of them taken less than nought times: so
-where it keeps all wishes, no spot that keeps them is weighed more.
+At every corner that is gone through the aim is the sum of the three rows, none of them taken less than nought times:
+so where the corner keeps all wishes, no spot that keeps them is weighed more.
 """
 
 

@@ -144,7 +144,7 @@ def _settled(asked, aim):
     """A Most or an Empty for all wishes, those of a box of as many places as the aim first."""
     many = len(aim)
     sizes = [_size(wish[0] + (wish[1],)) for wish in asked]
-    wishes = [_whole(wish[0], many, size) + (_top(wish[1], size),) for wish, size in zip(asked, sizes)]
+    wishes = [_whole(wish[0], many, by) + (_top(wish[1], by),) for wish, by in zip(asked, sizes)]
     size = _size(aim)
     spot, bottom, tops = walk(wishes + list(DUMMIES[many - 1:]), _whole(aim, many, size), _start(aim, len(asked)))
     if spot is None:
