@@ -72,6 +72,12 @@ def spot_at(spans, corner):
     return tuple([span[end] for span, end in zip(spans, corner)])
 
 
+def corners(box):
+    """The spots that stand at each place at low or at high."""
+    many = len(box)
+    return [spot_at(box, [at >> place & 1 for place in range(many)]) for at in range(1 << many)]
+
+
 def check_box(thing):
     """Refuse what is no box."""
     if not is_box(thing):

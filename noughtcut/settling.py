@@ -11,7 +11,7 @@ from noughtcut.errors import NoAim, NoWish
 from noughtcut.kinds import are_multiples, is_sum
 from noughtcut.numbers import NOUGHT, fraction_of, is_row, plus, times, weigh
 from noughtcut.sums import sum_times
-from noughtcut.wishes import holds, holds_strictly, summed
+from noughtcut.wishes import are_against, holds, holds_strictly, summed
 
 MOST_WISHES = 16
 # Corners are reckoned over three places, whatever a box has: what lies beyond its own is 0 at every spot.
@@ -66,11 +66,7 @@ class Empty(Settled):
     def shows(self, box, wishes, aim):
         """Whether it is so for this box and these wishes."""
         _check_aim(box, wishes, aim)
-        asked = box_wishes(box) + list(wishes)
-        if not are_multiples(self.multiples, len(asked)):
-            return False
-        row, number = summed(asked, self.multiples, len(box))
-        return row == (NOUGHT,) * len(box) and number[0] < 0
+        return are_against(self.multiples, box_wishes(box) + list(wishes), [])
 
 
 class Inside(Settled):
@@ -105,14 +101,7 @@ class Outside(Settled):
         """Whether it is so for this box, these wishes and these strict ones."""
         _check_strict(box, wishes, strict)
         asked = box_wishes(box) + list(wishes) + list(strict)
-        if not are_multiples(self.multiples, len(asked)):
-            return False
-        row, number = summed(asked, self.multiples, len(box))
-        if row != (NOUGHT,) * len(box):
-            return False
-        ahead = len(asked) - len(strict)
-        used = any([multiple != NOUGHT for multiple in self.multiples[ahead:]])
-        return number[0] < 0 or (number == NOUGHT and used)
+        return are_against(self.multiples, asked, _last_places(asked, strict))
 
 
 def settle(box, wishes, aim):
@@ -125,11 +114,16 @@ def settle_strictly(box, wishes, strict):
     """An Inside or an Outside for a box, wishes over its places, and strict ones."""
     _check_strict(box, wishes, strict)
     asked = box_wishes(box) + list(wishes) + list(strict)
-    answer = _settled(asked, (NOUGHT,) * len(box))
+    return settled_strictly(asked, _last_places(asked, strict), len(box))
+
+
+def settled_strictly(asked, strict, many):
+    """An Inside or an Outside for all wishes, those of a box of so many places first, some at places strictly."""
+    answer = _settled(asked, (NOUGHT,) * many)
     if not answer.has_spot():
         return Outside(answer.multiples)
     spot = answer.spot
-    for at in range(len(asked) - len(strict), len(asked)):
+    for at in strict:
         if not holds_strictly(asked[at], spot):
             # As far from this wish's bound as can be: if that is on the bound, then so is every spot.
             answer = _settled(asked, sum_times(MINUS_ONE, asked[at])[0])
@@ -138,6 +132,11 @@ def settle_strictly(box, wishes, strict):
             # Halfway both spots' strict wishes hold strictly, for all wishes hold at both.
             spot = tuple([times(HALF, plus(one, other)) for one, other in zip(spot, answer.spot)])
     return Inside(spot)
+
+
+def _last_places(asked, strict):
+    """The places of the strict wishes, which stand behind all others."""
+    return list(range(len(asked) - len(strict), len(asked)))
 
 
 def _settled(asked, aim):

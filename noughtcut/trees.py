@@ -3,14 +3,14 @@
 A case is told by a pattern and by how many hidden nodes are settled, the first ones; all other bits are 0.
 """
 
-from noughtcut.boxes import MINUS_ONE, box_wishes, check_box_over
+from noughtcut.boxes import MINUS_ONE, check_box_over
+from noughtcut.branches import is_empty, is_tree
 from noughtcut.cases import case_wishes, check_nets, hidden_of, out_sums, outs_of
 from noughtcut.errors import Large, NoAim, NoNumber
-from noughtcut.kinds import are_multiples
 from noughtcut.nets import node_net
 from noughtcut.numbers import NOUGHT, ONE, is_fraction, is_less, is_row, plus, times, weigh
 from noughtcut.settling import settle
-from noughtcut.wishes import summed
+from noughtcut.wishes import are_bound, summed
 
 MOST_HIDDEN = 8
 
@@ -38,7 +38,13 @@ def closes(nets, box, aim, number, tree):
     if not is_fraction(number):
         raise NoNumber(number)
     check_large(nets)
-    return _is_closed(nets, box, (aim, number), tree, 0, 0)
+
+    def is_end(end, wishes, pattern, whole):
+        if end[0] == "most":
+            return whole and are_bound(end[1], wishes, aim_by(nets, aim, pattern), number)
+        return is_empty(end, wishes)
+
+    return is_tree(nets, box, tree, is_end)
 
 
 def node_state(net, box, layer, node):
@@ -89,29 +95,6 @@ def _greater(one, other):
     if other is None or not is_less(one[0], other[0]):
         return one
     return other
-
-
-def _is_closed(nets, box, asked, tree, pattern, many):
-    """Whether a thing is a tree that closes what is asked, an aim and a number, in a case."""
-    if not isinstance(tree, tuple) or len(tree) not in (2, 3):
-        return False
-    if len(tree) == 3:
-        if tree[0] != "two" or many == hidden_of(nets):
-            return False
-        if not _is_closed(nets, box, asked, tree[1], pattern, many + 1):
-            return False
-        return _is_closed(nets, box, asked, tree[2], pattern + (1 << many), many + 1)
-    wishes = box_wishes(box) + case_wishes(nets, pattern, many)
-    if not are_multiples(tree[1], len(wishes)):
-        return False
-    row, number = summed(wishes, tree[1], len(box))
-    if tree[0] == "empty":
-        return row == (NOUGHT,) * len(box) and number[0] < 0
-    if tree[0] != "most" or many != hidden_of(nets):
-        return False
-    aim, most = asked
-    wanted, beside = aim_by(nets, aim, pattern)
-    return row == wanted and not is_less(most, plus(number, beside))
 
 
 def _check_aim(nets, box, aim):

@@ -1,6 +1,7 @@
 """Wishes: whether they hold at a row, and many of them summed, each taken so many times."""
 
-from noughtcut.numbers import NOUGHT, is_less, weigh
+from noughtcut.kinds import are_multiples
+from noughtcut.numbers import NOUGHT, is_less, plus, weigh
 from noughtcut.sums import flat_sum, sum_plus, sum_times
 
 
@@ -22,3 +23,22 @@ def summed(wishes, multiples, many):
         if multiple != NOUGHT:
             total = sum_plus(total, sum_times(multiple, wish))
     return total
+
+
+def are_against(thing, wishes, strict):
+    """Whether a thing is multiples that show that no spot keeps all wishes, those at the strict places strictly."""
+    if not are_multiples(thing, len(wishes)):
+        return False
+    many = len(wishes[0][0])
+    row, number = summed(wishes, thing, many)
+    if row != (NOUGHT,) * many:
+        return False
+    return number[0] < 0 or (number == NOUGHT and any([thing[at] != NOUGHT for at in strict]))
+
+
+def are_bound(thing, wishes, one, most):
+    """Whether a thing is multiples that show that a sum tells no more than this wherever all wishes hold."""
+    if not are_multiples(thing, len(wishes)):
+        return False
+    row, number = summed(wishes, thing, len(one[0]))
+    return row == one[0] and not is_less(most, plus(number, one[1]))

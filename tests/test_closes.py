@@ -10,7 +10,7 @@ from tests.test_boxes import not_boxes
 from tests.test_cases import not_nets
 from tests.test_trees import FAR, drawn_questions
 from tests.things import Draws, as_fraction, as_tuple, deep_list, deep_tuple, refused, row_of, strange_things
-from tests.treeing import is_tree
+from tests.treeing import ends_of, is_tree, put_at
 
 BOX = (row_of(-1, 2),)
 ONE = row_of(1)
@@ -25,23 +25,6 @@ TREE = ("two", ("two", BOTH_CUT, LEFT), ("two", RIGHT, BOTH_KEPT))
 def is_closed(tree, number=(5, 1), aim=ONE, box=BOX, nets=(FAR,)):
     """Whether a thing closes an aim of the net FAR."""
     return closes(nets, box, aim, number, tree)
-
-
-def ends_of(tree, path=()):
-    """Each end of a tree with the way to it."""
-    if tree[0] != "two":
-        yield path, tree
-        return
-    for side in (1, 2):
-        yield from ends_of(tree[side], path + (side,))
-
-
-def put_at(tree, path, new):
-    """The tree with another thing at the end of a way."""
-    if not path:
-        return new
-    side = path[0]
-    return tree[:side] + (put_at(tree[side], path[1:], new),) + tree[side + 1:]
 
 
 class ClosesTest(unittest.TestCase):

@@ -68,6 +68,30 @@ FUNCTIONS = {
         "closes": ["nets", "box", "aim", "number", "tree"],
         "node_state": ["net", "box", "layer", "node"],
     },
+    "alike": {
+        "told_alike": ["one", "other", "box"],
+        "shows_alike": ["one", "other", "box", "thing"],
+    },
+    "needless": {
+        "without_wire": ["net", "layer", "node", "place"],
+        "hushed": ["net", "layer", "node"],
+        "needless_wires": ["net", "box"],
+        "needless_nodes": ["net", "box"],
+        "slimmed": ["net", "box"],
+    },
+    "pieces": {
+        "cover_of": ["net", "box"],
+        "is_cover": ["net", "box", "thing"],
+        "pieces_of": ["net", "box"],
+    },
+    "wanted": {
+        "always_holds": ["net", "box", "wish"],
+        "shows_always": ["net", "box", "wish", "thing"],
+        "above_all": ["net", "box", "out"],
+        "shows_above": ["net", "box", "out", "thing"],
+        "find_spot": ["net", "box", "wishes"],
+        "shows_found": ["net", "box", "wishes", "thing"],
+    },
 }
 
 # Of each class what it is made of, and its methods.

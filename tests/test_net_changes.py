@@ -4,7 +4,7 @@ import unittest
 
 from noughtcut.errors import NoNode, NoNumber, NoWire
 from noughtcut.nets import Net, net_of, node_net, same_net, with_number, with_weight
-from noughtcut.numbers import ratio, times
+from tests.netting import exchanged, scaled
 from tests.things import Draws, as_fraction, come_to, refused, row_of, strange_things
 
 NOT_COUNTS = [True, False, -1, -2, 10 ** 400 - 1, "0", "", None, [0], (0,), (0, 1), {}, {0: 0}, [], ()]
@@ -121,12 +121,7 @@ class TurnsNothingTest(unittest.TestCase):
             spots = [draws.row(net.ins()) for _ in range(6)]
             for layer, node in net.places():
                 by = draws.one_of(((2, 1), (1, 3), (5, 7), (1000, 1)))
-                row, number = net.layers_told()[layer][node]
-                other = with_number(net, layer, node, times(number, by))
-                for place, weight in enumerate(row):
-                    other = with_weight(other, layer, node, place, times(weight, by))
-                for behind, (weights, _) in enumerate(net.layers_told()[layer + 1]):
-                    other = with_weight(other, layer + 1, behind, node, ratio(weights[node], by))
+                other = scaled(net, layer, node, by)
                 for spot in spots:
                     self.assertEqual(other.outs_at(spot), net.outs_at(spot))
                     self.assertEqual(other.pattern_at(spot), net.pattern_at(spot))
@@ -141,7 +136,7 @@ class TurnsNothingTest(unittest.TestCase):
             net = draws.net(1 + draws.below(3), [4, 3, 2])
             spots = [draws.row(net.ins()) for _ in range(6)]
             for layer, one, other in ((0, 0, 3), (0, 1, 2), (1, 0, 2), (1, 2, 1)):
-                turned = net_of(self.exchanged(net, layer, one, other))
+                turned = exchanged(net, layer, one, other)
                 bits = [net.places().index((layer, node)) for node in (one, other)]
                 for spot in spots:
                     self.assertEqual(turned.outs_at(spot), net.outs_at(spot))
@@ -149,17 +144,6 @@ class TurnsNothingTest(unittest.TestCase):
                     low, high = [pattern >> bit & 1 for bit in bits]
                     wanted = pattern + (high - low) * 2 ** bits[0] + (low - high) * 2 ** bits[1]
                     self.assertEqual(turned.pattern_at(spot), wanted)
-
-    def exchanged(self, net, layer, one, other):
-        """What a net tells, but with two nodes of a hidden layer at one another's place."""
-        ins, layers = net.told()
-        layers = [list(nodes) for nodes in layers]
-        layers[layer][one], layers[layer][other] = layers[layer][other], layers[layer][one]
-        for at, (row, number) in enumerate(layers[layer + 1]):
-            row = list(row)
-            row[one], row[other] = row[other], row[one]
-            layers[layer + 1][at] = (tuple(row), number)
-        return (ins, tuple(tuple(nodes) for nodes in layers))
 
 
 if __name__ == "__main__":

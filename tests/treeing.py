@@ -2,7 +2,8 @@
 
 from fractions import Fraction
 
-from tests.things import as_fraction
+from noughtcut.nets import with_weight
+from tests.things import Draws, as_fraction
 from tests.wishing import asked_of, come, weighs
 
 
@@ -55,22 +56,58 @@ def aimed(nets, aim, pattern):
     return [sum((as_fraction(by) * one[at] for by, one in zip(aim, outs)), Fraction(0)) for at in range(len(outs[0]))]
 
 
-def is_tree(nets, box, aim, number, tree, pattern=0, many=0):
-    """Whether a tree closes an aim at a number, looked at end by end; the tree is one that was told."""
-    hidden = sum(net.hidden() for net in nets)
-    if tree[0] == "two":
-        _, cut, kept = tree
-        return many < hidden and is_tree(nets, box, aim, number, cut, pattern, many + 1) and is_tree(
-            nets, box, aim, number, kept, pattern + 2 ** many, many + 1)
-    word, multiples = tree
-    wishes = wishes_of(nets, box, pattern, many)
+def ends_of(tree, path=()):
+    """Each end of a tree with the way to it."""
+    if tree[0] != "two":
+        yield path, tree
+        return
+    for side in (1, 2):
+        yield from ends_of(tree[side], path + (side,))
+
+
+def put_at(tree, path, new):
+    """The tree with another thing at the end of a way."""
+    if not path:
+        return new
+    side = path[0]
+    return tree[:side] + (put_at(tree[side], path[1:], new),) + tree[side + 1:]
+
+
+def cases_of(nets, box, tree):
+    """Each end of a tree with the wishes of its case, its pattern, and how many hidden nodes are decided there."""
+    for path, end in ends_of(tree):
+        pattern = sum(2 ** at for at, side in enumerate(path) if side == 2)
+        yield end, wishes_of(nets, box, pattern, len(path)), pattern, len(path)
+
+
+def against(wishes, multiples, strict=()):
+    """Whether multiples show that no spot keeps all wishes, those at the strict places strictly."""
     if len(multiples) != len(wishes) or any(one[0] < 0 for one in multiples):
         return False
     *row, total = come(wishes, multiples)
-    if word == "empty":
-        return not any(row) and total < 0
-    *wanted, beside = aimed(nets, aim, pattern)
-    return word == "most" and many == hidden and row == wanted and total + beside <= as_fraction(number)
+    return not any(row) and (total < 0 or total == 0 and any(multiples[at][0] for at in strict))
+
+
+def bounds(wishes, multiples, one, most):
+    """Whether multiples show that a sum, its number behind its row, is at most so much where all wishes hold."""
+    if len(multiples) != len(wishes) or any(by[0] < 0 for by in multiples):
+        return False
+    *row, total = come(wishes, multiples)
+    return row == one[:-1] and total + one[-1] <= most
+
+
+def is_tree(nets, box, aim, number, tree):
+    """Whether a tree closes an aim at a number, looked at end by end; the tree has the form of one that was told."""
+    hidden = sum(net.hidden() for net in nets)
+    for (word, multiples), wishes, pattern, many in cases_of(nets, box, tree):
+        if word == "empty":
+            good = against(wishes, multiples)
+        else:
+            wanted = aimed(nets, aim, pattern)
+            good = word == "most" and many == hidden and bounds(wishes, multiples, wanted, as_fraction(number))
+        if many > hidden or not good:
+            return False
+    return True
 
 
 def weighed(nets, aim, spot):
@@ -97,3 +134,12 @@ def one_net(draws, ins, hidden):
         sizes.append(least + draws.below(min(4, hidden) - least + 1))
         hidden -= sizes[-1]
     return draws.net(ins, [*sizes, 1 + draws.below(3)])
+
+
+def large_nets(seed, shapes):
+    """Nets over three ins with layers of these sizes, each also with a weight of thirty figures."""
+    draws = Draws(seed)
+    for shape in shapes:
+        net = draws.net(3, shape)
+        yield net
+        yield with_weight(net, 0, 0, 0, draws.long_number(30))
