@@ -1,9 +1,10 @@
 """Nets and boxes as texts of rows: written, and read again."""
 
 from noughtcut.boxes import MOST_PLACES, check_box, is_box
-from noughtcut.errors import NoBox, NoNumber, NoText
+from noughtcut.errors import NoBox, NoText
 from noughtcut.nets import MOST_INS, MOST_LAYERS, MOST_NODES, Net
-from noughtcut.numbers import read_number, show_number
+from noughtcut.numbers import show_number
+from noughtcut.textrows import fraction_in, rows_of
 
 
 def show_net(net):
@@ -19,7 +20,7 @@ def show_net(net):
 
 def read_net(text):
     """The net that is written so."""
-    rows = _rows_of(text)
+    rows = rows_of(text)
     ins = _read_ins(rows)
     layers = []
     ahead = ins
@@ -44,21 +45,14 @@ def show_box(box):
 def read_box(text):
     """The box that is written so."""
     spans = []
-    for at, row in enumerate(_rows_of(text)):
+    for at, row in enumerate(rows_of(text)):
         words = row.split(" ")
         if at >= MOST_PLACES or len(words) != 4 or words[0] != "from" or words[2] != "to":
             raise NoText(at)
-        spans.append((_read_word(words[1], at), _read_word(words[3], at)))
+        spans.append((fraction_in(words[1], at), fraction_in(words[3], at)))
     if not is_box(tuple(spans)):
         raise NoBox(tuple(spans))
     return tuple(spans)
-
-
-def _rows_of(text):
-    """The rows of a text; what is no text is refused."""
-    if not isinstance(text, str):
-        raise NoText(0)
-    return text.split("\n")
 
 
 def _node_row(node):
@@ -97,16 +91,8 @@ def _read_node(rows, at, ahead):
     words = _words_at(rows, at)
     if len(words) != ahead + 3 or words[0] != "node" or words[-2] != ":":
         raise NoText(at)
-    weights = [_read_word(word, at) for word in words[1:-2]]
-    return (tuple(weights), _read_word(words[-1], at))
-
-
-def _read_word(word, at):
-    """The fraction that a word of a row tells."""
-    try:
-        return read_number(word)
-    except NoNumber:
-        raise NoText(at) from None
+    weights = [fraction_in(word, at) for word in words[1:-2]]
+    return (tuple(weights), fraction_in(words[-1], at))
 
 
 def _counts(most):

@@ -92,6 +92,18 @@ FUNCTIONS = {
         "find_spot": ["net", "box", "wishes"],
         "shows_found": ["net", "box", "wishes", "thing"],
     },
+    "together": {
+        "behind": ["one", "other"],
+        "beside": ["one", "other"],
+        "opposite": ["net"],
+    },
+    "treetext": {
+        "show_tree": ["tree"],
+        "read_tree": ["text"],
+    },
+    "desklines": {
+        "read_line": ["line"],
+    },
 }
 
 # Of each class what it is made of, and its methods.
@@ -115,6 +127,9 @@ METHODS = {
         "Empty": (["multiples"], {"has_spot": [], "shows": ["box", "wishes", "aim"]}),
         "Inside": (["spot"], {"has_spot": [], "shows": ["box", "wishes", "strict"]}),
         "Outside": (["multiples"], {"has_spot": [], "shows": ["box", "wishes", "strict"]}),
+    },
+    "desk": {
+        "Desk": ([], {"say": ["line"]}),
     },
 }
 
