@@ -23,7 +23,7 @@ def told_alike(one, other, box):
             for by, answer in zip(sums, answers):
                 if sum_at(by, answer.spot)[0] > 0:
                     return (None, (out, answer.spot))
-            rows.append(tuple([answer.multiples for answer in answers]))
+            rows.append(tuple([told.multiples for told in answers]))
         return (("same", tuple(rows)), None)
 
     tree, found = grown(nets, box, ended)

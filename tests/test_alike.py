@@ -3,13 +3,14 @@
 import time
 import unittest
 
+from noughtcut.alike import are_alike as sooner
 from noughtcut.alike import shows_alike, told_alike
 from noughtcut.errors import Large, NoBox, NoFit
 from noughtcut.nets import Net, net_of, with_number, with_weight
 from noughtcut.numbers import is_row
 from tests.netting import are_alike, exchanged, scaled
 from tests.test_boxes import not_boxes, spots_of
-from tests.things import Draws, as_fraction, come_to, refused, row_of, strange_things
+from tests.things import Draws, as_fraction, as_tuple, come_to, refused, row_of, strange_things
 from tests.treeing import against, bounds, cases_of, hidden_and_outs, one_net
 
 BOX = (row_of(-1, 2),)
@@ -182,6 +183,42 @@ class AlikeTest(unittest.TestCase):
                 told = told_alike(net, other, box)
                 self.assertEqual(told, told_alike(net_of(net.told()), net_of(other.told()), box))
                 self.assertEqual((net.told(), other.told()), kept)
+
+
+def bump(draws, top):
+    """A net that is nought at the ends of the box from -1 to 1, and above nought only near a spot between; in it, that."""
+    at = as_fraction(draws.one_of(row_of("-1/2", 0, "1/3")))
+    # Up to the spot and down behind it, each by a slope that comes to nought at an end of the box.
+    up, down = 1 / (1 + at), 1 / (1 - at)
+    nodes = [((as_tuple(up),), as_tuple(up)), ((as_tuple(up + down),), as_tuple(-at * (up + down)))]
+    weights = row_of(1, -1)
+    if draws.below(2):
+        nodes, weights = nodes[::-1], weights[::-1]
+    share = draws.one_of(row_of(0, "1/2", "9/10"))
+    return Net(1, [nodes, [(weights, (-share[0], share[1]))], [((top,), (0, 1))]])
+
+
+class SoonerTest(unittest.TestCase):
+    def test_the_same_as_is_told_with_a_tree(self):
+        draws = Draws(212)
+        seen = {True: 0, False: 0}
+        for at in range(60):
+            one, other = [bump(draws, draws.one_of(row_of(1, 1, 2))) for _ in range(2)]
+            if at % 3 == 0:
+                other = scaled(one, at % 2, 0, (5, 2))
+            box = draws.one_of(((row_of(-1, 1),), (row_of(-1, 1),), (row_of(-1, "-1/5"),), (row_of(-2, 2),)))
+            wanted = told_alike(one, other, box)[0] == "alike"
+            seen[wanted] += 1
+            self.assertIs(sooner(one, other, box), wanted)
+        self.assertGreater(min(seen.values()), 15)
+
+    def test_drawn_ones(self):
+        draws = Draws(213)
+        for hidden in range(5):
+            net = one_net(draws, 2, hidden)
+            for box in (draws.box(2), draws.box(2)):
+                for other in as_they_are(draws, net, box):
+                    self.assertIs(sooner(net, other, box), told_alike(net, other, box)[0] == "alike")
 
 
 class TimeTest(unittest.TestCase):

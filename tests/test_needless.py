@@ -6,7 +6,7 @@ import unittest
 from noughtcut.alike import told_alike
 from noughtcut.errors import Large, NoBox, NoNode, NoWire
 from noughtcut.needless import hushed, needless_nodes, needless_wires, without_wire
-from noughtcut.nets import Net, net_of
+from noughtcut.nets import Net, net_of, with_number
 from tests.netting import are_alike
 from tests.test_boxes import not_boxes
 from tests.test_net_changes import NOT_COUNTS
@@ -150,6 +150,17 @@ class NeedlessTest(unittest.TestCase):
         self.assertEqual(needless_nodes(both, BOX), [(0, 0), (0, 1), (1, 0)])
         self.assertEqual(told_alike(hushed(hushed(both, 0, 0), 0, 1), both, BOX)[0], "unlike")
         self.assertEqual(needless_nodes(hushed(both, 0, 0), BOX), [(1, 0)])
+
+    def test_what_counts_only_between_the_corners(self):
+        # Up and down again within the box from -1 to 1: nought at both ends, but not between.
+        net = Net(1, [[(row_of(1), (1, 1)), (row_of(1), (0, 1))], [(row_of(1, -2), (0, 1))], [(row_of(3), (0, 1))]])
+        self.assertEqual(needless_wires(net, (row_of(-1, 1),)), [])
+        self.assertEqual(needless_nodes(net, (row_of(-1, 1),)), [])
+        low = with_number(net, 1, 0, (-1, 2))
+        self.assertEqual(needless_wires(low, (row_of(-1, 1),)), [])
+        never = with_number(net, 1, 0, (-1, 1))
+        self.assertEqual(needless_nodes(never, (row_of(-1, 1),)), [(0, 0), (1, 0)])
+        self.assertEqual(needless_wires(never, (row_of(-1, 1),)), [(0, 0, 0), (1, 0, 0), (2, 0, 0)])
 
     def test_wires_of_nought_are_never_told(self):
         net = Net(2, [[(row_of(0, 0), (-1, 1)), (row_of(1, 0), (0, 1))], [(row_of(0, 0), (1, 1)), (row_of(0, 1), (0, 1))]])

@@ -3,9 +3,9 @@
 import unittest
 
 from noughtcut.errors import NoNode, NoNumber, NoWire
-from noughtcut.nets import Net, net_of, node_net, same_net, with_number, with_weight
+from noughtcut.nets import Net, node_net, same_net, with_number, with_weight
 from tests.netting import exchanged, scaled
-from tests.things import Draws, as_fraction, come_to, refused, row_of, strange_things
+from tests.things import Draws, as_fraction, come_to, refused, strange_things
 
 NOT_COUNTS = [True, False, -1, -2, 10 ** 400 - 1, "0", "", None, [0], (0,), (0, 1), {}, {0: 0}, [], ()]
 

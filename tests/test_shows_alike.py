@@ -231,6 +231,11 @@ class UnlikeTest(unittest.TestCase):
             self.assertIs(shows_alike(ONE, TWO, BOX, thing), False)
             self.assertIs(shows_alike(ONE, NOTHING, BOX, thing), False)
 
+    def test_other_words(self):
+        self.assertIs(shows_alike(ONE, NOTHING, BOX, ("unlike", 0, row_of(2))), True)
+        for word in ("alike", "Unlike", "false", "", None, True, 0, ["unlike"], ("unlike",), b"unlike"):
+            self.assertIs(shows_alike(ONE, NOTHING, BOX, (word, 0, row_of(2))), False)
+
     def test_any_other_thing(self):
         for thing in [TREE, TREE[1], BOTH_CUT, [TREE], (TREE,)]:
             self.assertIs(shows_alike(ONE, TWO, BOX, thing), False)

@@ -8,7 +8,7 @@ from noughtcut.trees import closes
 from noughtcut.wanted import above_all, always_holds, find_spot, shows_above, shows_always, shows_found
 from tests.test_answers import bent, moved
 from tests.test_boxes import not_boxes
-from tests.test_wanted import BOX, SAME, TWO, holds_at, is_none_tree, lies_in
+from tests.test_wanted import BOX, SAME, holds_at, is_none_tree, lies_in
 from tests.things import Draws, as_fraction, come_to, deep_list, deep_tuple, row_of, strange_things
 from tests.treeing import ends_of, is_tree, one_net, put_at
 

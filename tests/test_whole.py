@@ -84,7 +84,8 @@ class WholeTest(unittest.TestCase):
     def test_two_nets(self):
         words = []
         for net, box, spots, draws in questions(343, 20, 4):
-            for other in (opposite(opposite(net)), scaled(net, 0, 0, (3, 2)) if net.hidden() else net, opposite(net), draws.net(net.ins(), [net.outs()])):
+            by_two = scaled(net, 0, 0, (3, 2)) if net.hidden() else net
+            for other in (opposite(opposite(net)), by_two, opposite(net), draws.net(net.ins(), [net.outs()])):
                 told = told_alike(net, other, box)
                 words.append(told[0])
                 self.assertIs(shows_alike(net, other, box, told), True)
