@@ -232,7 +232,8 @@ class UndoTest(unittest.TestCase):
         desk = new_desk()
         desk.say("opposite far far")
         for line in ("show far", "sides near", "out far 1", "pattern far 1", "bounds far near", "states far near",
-                     "most far near 1", "least far near 1", "paper far near 1", "alike far plain near", "needless far near", "pieces far near", "always far near 0 1", "above two square 0"):
+                     "most far near 1", "least far near 1", "paper far near 1", "alike far plain near",
+                     "needless far near", "pieces far near", "always far near 0 1", "above two square 0"):
             desk.say(line)
         for line in ("show", "x", "show x", "net far x", "box near x", "weight far 9 0 0 1", "weight far 0 0 9 1", "number far 9 9 9",
                      "slim far square", "behind far far two", "beside far far two", "opposite far x", "out far 1 2", "bounds far square"):

@@ -187,7 +187,8 @@ class RefusedTest(unittest.TestCase):
 
     def test_boxes_first(self):
         for line in ("bounds far square", "states far square", "most far square 1", "most nine square 1",
-                     "least far square 1 2", "paper far square 1", "alike far far square", "needless far square", "needless nine square", "pieces nine square", "always far square 9 1",
+                     "least far square 1 2", "paper far square 1",
+                     "alike far far square", "needless far square", "needless nine square", "pieces nine square", "always far square 9 1",
                      "always nine square 9 1", "above far square 9", "above nine square 0", "slim far square", "slim five square"):
             self.assertEqual(refused(self, NoBox, self.desk.say, line), SQUARE)
 
